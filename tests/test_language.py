@@ -1,0 +1,189 @@
+"""The rules of ../shared/LANGUAGE.md that a simple look at the files of the package can tell."""
+
+import ast
+import builtins
+import pathlib
+import re
+import unittest
+
+PACKAGE = pathlib.Path(__file__).resolve().parent.parent / "ownfears"
+FILES = sorted(path for path in PACKAGE.rglob("*") if path.is_file() and "__pycache__" not in path.parts)
+
+ALLOWED_BUILTINS = set("""
+len range enumerate zip min max sum abs sorted reversed int str bool bytes list tuple dict set frozenset isinstance ord repr
+any all divmod Exception ValueError TypeError KeyError IndexError LookupError ZeroDivisionError ArithmeticError OverflowError
+RuntimeError NotImplementedError AttributeError StopIteration NotImplemented iter next map property staticmethod classmethod
+super
+""".split())
+BARRED_NAMES = set("""
+register mro elements open input law version_info with_traceback add_note attrgetter breakpoint builtins compile copyright
+credits delattr dir eval exec exit gc getattr globals hasattr help id importlib license locals methodcaller os quit setattr
+type vars sys
+""".split())
+BARRED_WORDS = set("""
+type typing typing_extensions enum Enum IntEnum StrEnum Flag IntFlag Generic Protocol ABC ABCMeta namedtuple NamedTuple
+TypedDict TYPE_CHECKING abstractmethod dataclass overload contextmanager
+""".split())
+DUNDERS = set("""
+__init__ __eq__ __repr__ __str__ __len__ __enter__ __exit__ __call__ __iter__ __lt__ __le__ __gt__ __ge__ __ne__ __add__
+__sub__ __mul__ __and__ __or__ __xor__ __neg__ __pos__ __invert__ __abs__ __bool__ __contains__ __getitem__ __setitem__
+""".split())
+
+
+def trees():
+    return [(path, ast.parse(path.read_text(encoding="utf-8"))) for path in FILES if path.suffix == ".py"]
+
+
+def definitions(tree):
+    return [node for node in ast.walk(tree) if isinstance(node, (ast.FunctionDef, ast.ClassDef))]
+
+
+def docstrings(tree):
+    return {id(node.body[0].value) for node in [tree, *definitions(tree)]
+            if isinstance(node.body[0], ast.Expr) and isinstance(node.body[0].value, ast.Constant)}
+
+
+def bound_names(tree):
+    """All names that a file gives to something, but for methods."""
+    for node in ast.walk(tree):
+        if isinstance(node, ast.arg):
+            yield node.arg
+        elif isinstance(node, ast.Name) and not isinstance(node.ctx, ast.Load):
+            yield node.id
+    for node in tree.body:
+        if isinstance(node, (ast.FunctionDef, ast.ClassDef)):
+            yield node.name
+
+
+class LanguageTest(unittest.TestCase):
+    def test_files(self):
+        self.assertIn("__init__.py", [path.name for path in FILES])
+        for path in FILES:
+            self.assertTrue(re.fullmatch("[a-z0-9_]+[.]py", path.name), path)
+            self.assertFalse(re.fullmatch("(law_.*|tests?|testing|test_.*|site|conftest)[.]py", path.name), path)
+        self.assertLessEqual(len(FILES), 100)
+
+    def test_characters_and_sizes(self):
+        for path in FILES:
+            text = path.read_text(encoding="utf-8")
+            self.assertTrue(all(" " <= sign <= "~" or sign == "\n" for sign in text), path)
+            rows = text.split("\n")
+            self.assertLessEqual(len(rows) - 1, 399, path)
+            self.assertLessEqual(max(map(len, rows)), 120, path)
+        for path, tree in trees():
+            for node in definitions(tree):
+                if isinstance(node, ast.FunctionDef):
+                    self.assertLessEqual(node.end_lineno - node.lineno + 1, 40, (path, node.name))
+
+    def test_imports(self):
+        defined = {f"ownfears.{path.stem}": {node.name for node in tree.body if hasattr(node, "name")}
+                   for path, tree in trees()}
+        above = {}
+        for path, tree in trees():
+            found = [node for node in ast.walk(tree) if isinstance(node, (ast.Import, ast.ImportFrom))]
+            for node in found:
+                self.assertIsInstance(node, ast.ImportFrom, path)
+                self.assertIn(node, tree.body, path)
+                self.assertEqual(node.level, 0, path)
+                for name in node.names:
+                    self.assertIsNone(name.asname, path)
+                    self.assertIn(name.name, defined[node.module], (path, name.name))
+            above[f"ownfears.{path.stem}"] = {node.module for node in found}
+        while above:
+            free = [name for name, wanted in above.items() if not wanted & set(above)]
+            self.assertTrue(free, f"imports in a circle: {sorted(above)}")
+            above = {name: wanted for name, wanted in above.items() if name not in free}
+
+    def test_no_import_is_unused_or_bound_again(self):
+        for path, tree in trees():
+            imported = [name.name for node in tree.body if isinstance(node, ast.ImportFrom) for name in node.names]
+            read = {node.id for node in ast.walk(tree) if isinstance(node, ast.Name) and isinstance(node.ctx, ast.Load)}
+            for name in imported:
+                self.assertIn(name, read, path)
+            bound = list(bound_names(tree))
+            classes = [node.name for node in tree.body if isinstance(node, ast.ClassDef)]
+            self.assertFalse(set(imported) & set(bound), path)
+            for name in classes:
+                self.assertEqual(bound.count(name), 1, (path, name))
+
+    def test_module_level(self):
+        for path, tree in trees():
+            for node in tree.body:
+                docstring = node is tree.body[0] and isinstance(node, ast.Expr)
+                self.assertTrue(docstring or isinstance(
+                    node, (ast.ImportFrom, ast.FunctionDef, ast.ClassDef, ast.Assign)), (path, node.lineno))
+
+    def test_names(self):
+        for path, tree in trees():
+            for name in bound_names(tree):
+                self.assertNotIn(name, vars(builtins), path)
+                self.assertNotIn(name, BARRED_NAMES, path)
+                self.assertFalse(name.startswith("__"), (path, name))
+            for node in ast.walk(tree):
+                if isinstance(node, ast.Name) and isinstance(node.ctx, ast.Load) and node.id in vars(builtins):
+                    self.assertIn(node.id, ALLOWED_BUILTINS, (path, node.lineno))
+                if isinstance(node, ast.FunctionDef) and node.name.startswith("__"):
+                    self.assertIn(node.name, DUNDERS, path)
+                if isinstance(node, ast.Attribute):
+                    self.assertNotIn(node.attr, {"format", "format_map", "mro", "args", "open", "input", "law"}, path)
+
+    def test_words(self):
+        for path, tree in trees():
+            spared = docstrings(tree)
+            for node in ast.walk(tree):
+                words = set()
+                if isinstance(node, ast.Name):
+                    words = {node.id}
+                elif isinstance(node, ast.Attribute):
+                    words = {node.attr}
+                elif isinstance(node, ast.Constant) and isinstance(node.value, str):
+                    self.assertNotIn("%", node.value, path)
+                    words = set() if id(node) in spared else set(re.findall("[A-Za-z_]+", node.value))
+                self.assertFalse(words & BARRED_WORDS, (path, words))
+
+    def test_statements_and_expressions(self):
+        # Somewhat narrower than the rules: what the package has had no use for so far is left out here, too.
+        barred = (
+            ast.Global, ast.AsyncFunctionDef, ast.Await, ast.AsyncFor, ast.AsyncWith, ast.GeneratorExp, ast.Set, ast.Div,
+            ast.AnnAssign, ast.NamedExpr,
+        )
+        for path, tree in trees():
+            for node in ast.walk(tree):
+                self.assertNotIsInstance(node, barred, path)
+                if isinstance(node, ast.Constant):
+                    self.assertNotIsInstance(node.value, (float, complex, bytes), path)
+                if isinstance(node, ast.Raise) and node.exc is not None:
+                    self.assertIsInstance(node.exc, ast.Call, path)
+                if isinstance(node, ast.Compare):
+                    for sign, right in zip(node.ops, node.comparators):
+                        if isinstance(sign, (ast.Is, ast.IsNot)):
+                            self.assertIsInstance(right, ast.Constant, (path, node.lineno))
+                if isinstance(node, (ast.FunctionDef, ast.ClassDef)):
+                    for decorator in node.decorator_list:
+                        self.assertIn(ast.unparse(decorator).split(".")[-1], {"property", "setter", "staticmethod", "classmethod"})
+                if isinstance(node, (ast.arg, ast.FunctionDef)):
+                    self.assertIsNone(getattr(node, "annotation", None) or getattr(node, "returns", None), path)
+
+    def test_sets_are_only_sorted_counted_or_asked(self):
+        for path, tree in trees():
+            good = set()
+            for node in ast.walk(tree):
+                if isinstance(node, ast.Call) and isinstance(node.func, ast.Name) and node.func.id in ("sorted", "len"):
+                    good |= {id(part) for arg in node.args for part in ast.walk(arg)}
+                if isinstance(node, ast.Compare) and isinstance(node.ops[0], (ast.In, ast.NotIn, ast.Eq, ast.NotEq)):
+                    good |= {id(part) for part in ast.walk(node)}
+            for node in ast.walk(tree):
+                called = isinstance(node, ast.Call) and isinstance(node.func, ast.Name) and node.func.id in ("set", "frozenset")
+                if called or isinstance(node, ast.SetComp):
+                    self.assertIn(id(node), good, (path, node.lineno))
+
+    def test_nothing_is_called_like_a_generator(self):
+        functions = [node for _, tree in trees() for node in ast.walk(tree) if isinstance(node, ast.FunctionDef)]
+        generators = [node.name for node in functions
+                      if any(isinstance(part, (ast.Yield, ast.YieldFrom)) for part in ast.walk(node))]
+        for name in generators:
+            self.assertEqual([node.name for node in functions].count(name), 1, name)
+
+
+if __name__ == "__main__":
+    unittest.main()
