@@ -46,6 +46,15 @@ class ClashesTest(unittest.TestCase):
         self.assertEqual(clashing(net=LOST), (("a", "a"),))
         self.assertEqual(greatest_kept(net=LOST), ())
 
+    def test_sets_of_several_sizes_ascend(self):
+        net = (("a", "b", "c"), ((("b",),), (("a",),), (("a", "c"),)))
+        self.assertEqual(greatest_kept(net), (("a",), ("b", "c")))
+
+    def test_greatest_kept_of_all_nets_of_three_houses(self):
+        for net in THREES:
+            sets = [houses for houses in plain.subsets(net[0])[1:] if not plain.has_cover(kept_plainly(net, houses))]
+            self.assertEqual(greatest_kept(net), plain.maximal(sets))
+
     def test_a_smaller_set_can_have_a_cover_where_a_greater_one_has_none(self):
         self.assertEqual(greatest_kept(FOUR), (FOUR[0],))
         self.assertTrue(has_cover(kept_plainly(FOUR, ("a", "b"))))

@@ -167,6 +167,10 @@ class NetTest(unittest.TestCase):
             ((["a", "z"],), 0), ((("a", "Z"),), 0), ((("a", "b"), 1), 1),
         ]:
             self.assertTrue(same(outcome(one.renamed, *pairs), ("NotUsable", "pairs", k)))
+        for wrong in EVERY_KIND + [one, Lots()]:
+            if not (plain.is_pair(wrong) and plain.is_house(MEEK, wrong[0]) and plain.is_name(wrong[1])):
+                self.assertTrue(same(outcome(one.renamed, wrong), ("NotUsable", "pairs", 0)))
+                self.assertTrue(same(outcome(one.renamed, ("b", "y"), wrong, wrong), ("NotUsable", "pairs", 1)))
         self.same_net(one, MEEK)
 
     def test_results_of_derived_classes_are_of_net_itself(self):
