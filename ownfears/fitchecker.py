@@ -2,27 +2,9 @@
 
 from ownfears.errors import InvalidPaper
 from ownfears.familychecker import check_family
+from ownfears.fitsearch import missed_at, torn_at
 from ownfears.kinds import is_net, is_tuple_of
-from ownfears.lotsets import common
-from ownfears.netbasics import within_one
 from ownfears.usable import need
-
-
-def check_available(fears, quorums):
-    """Raise InvalidPaper for the first lot of a house that leaves it no quorum."""
-    for h, family in enumerate(fears):
-        for m, lot in enumerate(family):
-            if not any([common(quorum, lot) == () for quorum in quorums[h]]):
-                raise InvalidPaper("available", (h, m))
-
-
-def check_pair(fears, quorums, h, i):
-    """Raise InvalidPaper for the first quorums of two houses that share only houses that both fear together."""
-    for m, quorum in enumerate(quorums[h]):
-        for k, other in enumerate(quorums[i]):
-            shared = common(quorum, other)
-            if within_one(fears[h], shared) and within_one(fears[i], shared):
-                raise InvalidPaper("agree", (h, i, m, k))
 
 
 def lets_fit(net, thing):
@@ -33,8 +15,10 @@ def lets_fit(net, thing):
         raise InvalidPaper("shape", -1)
     for h, family in enumerate(thing):
         check_family(houses, h, family, False)
-    check_available(fears, thing)
-    for h in range(len(houses)):
-        for i in range(h, len(houses)):
-            check_pair(fears, thing, h, i)
+    missed = missed_at(fears, thing)
+    if missed is not None:
+        raise InvalidPaper("available", missed)
+    torn = torn_at(fears, thing)
+    if torn is not None:
+        raise InvalidPaper("agree", torn)
     return sum([len(family) for family in thing])

@@ -45,6 +45,12 @@ def greatest(lots):
     return tuple([lot for lot in once if not any([includes(other, lot) for other in once if other != lot])])
 
 
+def least(lots):
+    """Those of the lots, equal ones counted once, that include no other one, ascending."""
+    once = sorted(set(lots))
+    return tuple([lot for lot in once if not any([includes(lot, other) for other in once if other != lot])])
+
+
 def sets_of(names, size):
     """A list of all sets of so many of the names, ascending."""
     if size == 0:

@@ -17,6 +17,22 @@ def within_one(family, lot):
     return False
 
 
+def has_one_within(family, lot):
+    """Whether one of the family lies within the lot."""
+    for lesser in family:
+        if includes(lot, lesser):
+            return True
+    return False
+
+
+def has_one_without(family, lot):
+    """Whether one of the family has no house of the lot."""
+    for own in family:
+        if common(own, lot) == ():
+            return True
+    return False
+
+
 def common_parts(family, others):
     """The family of the greatest lots that lie within one of each of the two families."""
     return greatest([common(lot, other) for lot in family for other in others])

@@ -52,14 +52,19 @@ def lot_read(text):
     return lot
 
 
+def pair_of_lines(lines, first):
+    """The houses and families that the lines write, be they a net or not; first is the index of the first line."""
+    rows = [line.split(" ") for line in lines]
+    for k, words in enumerate(rows):
+        check_line(words, first + k)
+    parts = [" ".join(words[2:]).split(" | ") for words in rows]
+    fears = [tuple([lot_of_words(lot.split(" ")) for lot in lots]) for lots in parts]
+    return (tuple([words[0] for words in rows]), tuple(fears))
+
+
 def net_read(text):
     """The net that the text writes."""
     need(isinstance(text, str), "text")
-    rows = [row.split(" ") for row in text.split("\n")]
-    for line, words in enumerate(rows):
-        check_line(words, line)
-    parts = [" ".join(words[2:]).split(" | ") for words in rows]
-    fears = [tuple([lot_of_words(lot.split(" ")) for lot in lots]) for lots in parts]
-    net = (tuple([words[0] for words in rows]), tuple(fears))
+    net = pair_of_lines(text.split("\n"), 0)
     need(is_net(net), "text")
     return net

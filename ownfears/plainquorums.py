@@ -21,10 +21,20 @@ def plain_quorums(net):
     return tuple([tuple(sorted([without(houses, lot) for lot in family])) for family in fears])
 
 
-def are_quorums(net, thing):
-    """Whether thing is quorums of the net, whether they fit it or not."""
-    need(is_net(net), "net")
-    houses = net[0]
+def are_quorums_of(houses, thing):
+    """Whether thing is quorums of a net with these houses, which are taken to be houses."""
     if not is_tuple_of(thing, len(houses)):
         return False
     return all([is_family_of(houses, family) and () not in family for family in thing])
+
+
+def are_quorums(net, thing):
+    """Whether thing is quorums of the net, whether they fit it or not."""
+    need(is_net(net), "net")
+    return are_quorums_of(net[0], thing)
+
+
+def need_quorums(net, quorums):
+    """Raise NotUsable unless net is a net, and quorums are quorums of it."""
+    need(is_net(net), "net")
+    need(are_quorums_of(net[0], quorums), "quorums")

@@ -11,6 +11,8 @@ EXAMPLES = """
 >>> FOUR = (('a', 'b', 'c', 'd'), (ONES, ONES, ONES, ONES))
 >>> OWN = (('a', 'b', 'c', 'd'), ((('b',), ('c', 'd')), ONES, ONES, ONES))
 >>> MEEK = (('a', 'b', 'c', 'd'), ((('b',), ('c',)), (('a', 'd'),), (('a',), ('b',)), (('c',),)))
+>>> SENT = (('echo', True, ((('sender',),),)), ('take', True, ((('quorum', 'echo'),),)))
+>>> READY = (SENT[0], ('ready', True, ((('quorum', 'echo'),), (('kernel', 'ready'),))), ('take', True, ((('quorum', 'ready'),),)))
 >>> from ownfears.kinds import is_family, is_lot, is_net
 >>> from ownfears.netchecker import lets_net
 >>> [lets_net(OWN), is_net((('a',), (((),),))), is_net((('a',), ((),))), is_lot(('a', 'b'), ()), is_family(('a', 'b'), (('b',), ('a',)))]
@@ -52,18 +54,31 @@ raises NotUsable(word='text', at=-1)
 [(('a', 'b'), ('c',)), True, (('b',), ('c',)), (('b',), ('c',)), True]
 >>> one + ('a', ('x',))
 raises NotUsable(word='pair', at=-1)
+>>> from ownfears.fitting import are_available, fits, missed_lot, torn_pair
 >>> from ownfears.plainquorums import plain_quorums
 >>> MINE = plain_quorums(MEEK)
->>> [MINE[0], MINE[1]]
-[(('a', 'b', 'd'), ('a', 'c', 'd')), (('b', 'c'),)]
+>>> [MINE[0], MINE[1], fits(MEEK, MINE), fits(OWN, plain_quorums(OWN))]
+[(('a', 'b', 'd'), ('a', 'c', 'd')), (('b', 'c'),), True, False]
+>>> [torn_pair(OWN, plain_quorums(OWN)), are_available(MEEK, MINE[:2] + MINE[:2]), missed_lot(MEEK, MINE[:2] + MINE[:2])]
+[('a', 'b', ('a', 'b'), ('b', 'c', 'd'), ('b',)), False, ('c', ('a',))]
 >>> from ownfears.fitchecker import lets_fit
->>> [lets_fit(MEEK, MINE)]
-[6]
+>>> from ownfears.kernels import is_kernel, kernels_of
+>>> [lets_fit(MEEK, MINE), kernels_of(MEEK, MINE, 'a'), is_kernel(MEEK, MINE, 'b', ('b', 'c'))]
+[6, (('a',), ('b', 'c'), ('d',)), False]
 >>> lets_fit(MEEK, MINE[:3] + ((('a', 'b'), ('a', 'b', 'd')),))
 raises InvalidPaper(word='within', at=(3, 1))
 >>> from ownfears.falls import state_in, wise_in
->>> [wise_in(MEEK, ('a',)), state_in(MEEK, ('a',), 'd')]
-[('b', 'c'), 'naive']
+>>> from ownfears.guildchecker import lets_guild
+>>> from ownfears.guilds import greatest_guild
+>>> [wise_in(MEEK, ('a',)), state_in(MEEK, ('a',), 'd'), greatest_guild(FOUR, plain_quorums(FOUR), ('a',)), greatest_guild(MEEK, MINE, ('a',))]
+[('b', 'c'), 'naive', ('b', 'c', 'd'), ()]
+>>> lets_guild(MEEK, MINE, ('a',), ((), (('a', 'd'), ('c',), ('b',))))
+0
+>>> lets_guild(MEEK, MINE, ('a',), ((), (('a', 'c', 'd'), ('b',))))
+raises InvalidPaper(word='round', at=0)
+>>> from ownfears.goodfalls import good_falls
+>>> [good_falls(FOUR, plain_quorums(FOUR), 'a'), good_falls(MEEK, MINE, 'b')]
+[(('b',), ('c',), ('d',)), ((),)]
 >>> from ownfears.covers import all_covers, first_cover, has_cover, is_cover
 >>> [has_cover(FOUR), first_cover(FOUR), first_cover(OWN), len(list(all_covers(OWN)))]
 [False, None, ('a', 'b', ('c', 'd'), ('a',), ('b',), ('b',)), 6]
@@ -86,6 +101,34 @@ raises InvalidPaper(word='lot', at=2)
 ['a b c,d a b b', True, (('b',), ('c',), ('d',)), ((),)]
 >>> [has_cover(alike_net(('a', 'b', 'c', 'd'), k)) for k in (0, 1, 2, 4)]
 [False, False, True, True]
+>>> from ownfears.protocolchecker import lets_protocol
+>>> from ownfears.protocolparts import is_once, leads_to
+>>> from ownfears.protocolreadings import protocol_read
+>>> from ownfears.protocoltexts import protocol_text
+>>> protocol_text(READY)
+'echo once sender\\nready once quorum:echo kernel:ready\\ntake once quorum:ready'
+>>> [lets_protocol(READY), protocol_read('one free one:one+self:one') == (('one', False, ((('one', 'one'), ('self', 'one')),)),)]
+[3, True]
+>>> [leads_to(READY, 'take'), leads_to(READY, 'ready'), leads_to(READY, 'echo'), is_once(SENT, 'take')]
+[('echo', 'ready'), ('echo', 'ready'), (), True]
+>>> lets_protocol(SENT + SENT[:1])
+raises InvalidPaper(word='name', at=2)
+>>> protocol_read('echo once sender\\ntake often quorum:ready')
+raises InvalidText(line=1, column=1)
+>>> HEARD = (FOUR, plain_quorums(FOUR), READY, 'a', ('d',))
+>>> LIED = (FOUR, plain_quorums(FOUR), SENT, 'd', ('d',))
+>>> from ownfears.places import once_places, used_places
+>>> [len(once_places(LIED)), used_places(LIED, (('b', 'echo', 'w'),))]
+[6, (('b', 'echo'),)]
+>>> THREES = plain_quorums(FOUR)
+>>> ALONE, BOTH = (FOUR, THREES, SENT, 'a', ('a',)), (FOUR, THREES, SENT, 'a', ('a', 'b'))
+>>> from ownfears.leaving import can_leave, hears_sender
+>>> LATE = (FOUR, THREES, READY, 'a', ('a',))
+>>> [can_leave(ALONE, 'c', 'd'), can_leave(LATE, 'c', 'd'), hears_sender(LATE, 'c'), hears_sender((FOUR, THREES, READY, 'a', ('b',)), 'c')]
+[True, False, False, True]
+>>> from ownfears.benchtexts import log_lines
+>>> log_lines((('bench', FOUR, THREES, SENT, 'a'),))[::5]
+['bench a', 'quorums', 'protocol']
 """
 
 

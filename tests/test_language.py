@@ -24,6 +24,12 @@ BARRED_WORDS = set("""
 type typing typing_extensions enum Enum IntEnum StrEnum Flag IntFlag Generic Protocol ABC ABCMeta namedtuple NamedTuple
 TypedDict TYPE_CHECKING abstractmethod dataclass overload contextmanager
 """.split())
+METHODS = set("""
+append clear copy count endswith extend find get index insert isalnum isalpha isdigit islower isspace isupper items join keys
+ljust lower lstrip partition pop remove replace reverse rfind rjust rpartition rsplit rstrip setdefault split splitlines
+startswith strip update upper values zfill bit_length
+""".split())
+CHANGING = {"append", "clear", "extend", "insert", "pop", "remove", "reverse", "setdefault", "sort", "update"}
 DUNDERS = set("""
 __init__ __eq__ __repr__ __str__ __len__ __enter__ __exit__ __call__ __iter__ __lt__ __le__ __gt__ __ge__ __ne__ __add__
 __sub__ __mul__ __and__ __or__ __xor__ __neg__ __pos__ __invert__ __abs__ __bool__ __contains__ __getitem__ __setitem__
@@ -41,6 +47,20 @@ def definitions(tree):
 def docstrings(tree):
     return {id(node.body[0].value) for node in [tree, *definitions(tree)]
             if isinstance(node.body[0], ast.Expr) and isinstance(node.body[0].value, ast.Constant)}
+
+
+def constants(tree):
+    """The names that a file assigns at module level."""
+    return [target.id for node in tree.body if isinstance(node, ast.Assign) for target in node.targets]
+
+
+def changed_names(nodes):
+    """The names whose lists are changed by a method, an item or a deletion."""
+    for part in [part for node in nodes for part in ast.walk(node)]:
+        if isinstance(part, ast.Call) and isinstance(part.func, ast.Attribute) and part.func.attr in CHANGING:
+            yield ast.unparse(part.func.value)
+        if isinstance(part, ast.Subscript) and not isinstance(part.ctx, ast.Load):
+            yield ast.unparse(part.value)
 
 
 def bound_names(tree):
@@ -76,7 +96,7 @@ class LanguageTest(unittest.TestCase):
                     self.assertLessEqual(node.end_lineno - node.lineno + 1, 40, (path, node.name))
 
     def test_imports(self):
-        defined = {f"ownfears.{path.stem}": {node.name for node in tree.body if hasattr(node, "name")}
+        defined = {f"ownfears.{path.stem}": {node.name for node in tree.body if hasattr(node, "name")} | set(constants(tree))
                    for path, tree in trees()}
         above = {}
         for path, tree in trees():
@@ -163,6 +183,34 @@ class LanguageTest(unittest.TestCase):
                         self.assertIn(ast.unparse(decorator).split(".")[-1], {"property", "setter", "staticmethod", "classmethod"})
                 if isinstance(node, (ast.arg, ast.FunctionDef)):
                     self.assertIsNone(getattr(node, "annotation", None) or getattr(node, "returns", None), path)
+
+    def test_constants_are_assigned_once_and_only_read(self):
+        every = [name for _, tree in trees() for name in constants(tree)]
+        for path, tree in trees():
+            for name in constants(tree):
+                self.assertEqual(list(bound_names(tree)).count(name), 1, (path, name))
+            self.assertFalse(set(changed_names([tree])) & set(every), path)
+
+    def test_loops_change_nothing_that_they_go_over(self):
+        for path, tree in trees():
+            for node in ast.walk(tree):
+                if isinstance(node, ast.For):
+                    names = {part.id for part in ast.walk(node.iter) if isinstance(part, ast.Name)}
+                    self.assertFalse(names & set(changed_names(node.body)), (path, node.lineno))
+
+    def test_what_is_reversed(self):
+        for path, tree in trees():
+            for node in ast.walk(tree):
+                if isinstance(node, ast.Call) and isinstance(node.func, ast.Name) and node.func.id == "reversed":
+                    self.assertIsInstance(node.args[0], ast.Call, (path, node.lineno))
+                    self.assertIn(ast.unparse(node.args[0].func), {"list", "tuple", "sorted", "range"}, (path, node.lineno))
+
+    def test_methods_of_builtin_values(self):
+        own = {node.name for _, tree in trees() for node in definitions(tree)}
+        for path, tree in trees():
+            for node in ast.walk(tree):
+                if isinstance(node, ast.Call) and isinstance(node.func, ast.Attribute):
+                    self.assertIn(node.func.attr, METHODS | own | {"__init__"}, (path, node.lineno))
 
     def test_sets_are_only_sorted_counted_or_asked(self):
         for path, tree in trees():

@@ -7,14 +7,18 @@ import types
 import unittest
 
 from ownfears import (
-    alikenets, clashes, coverchecker, covers, covertexts, falls, fitchecker, kinds, netchanges, netclasses, netparts,
-    netreadings, nettexts, plainquorums,
+    alikenets, benchevents, benchreadings, benchtexts, clashes, coverchecker, covers, covertexts, falls, fitchecker, fitting,
+    goodchecker, goodfalls, guildchecker, guilds, kernels, kinds, leaving, netchanges, netclasses, netparts, netreadings, nettexts,
+    places, plainquorums, protocolchecker, protocolkinds, protocolparts, protocolreadings, protocoltexts,
 )
 from ownfears.covers import first_cover
+from tests import plainruns as runs
 from tests import plainwords as plain
 from tests.anyvalues import EVERY_KIND, double_mutants, mutants
 from tests.sameness import outcome, same
 from tests.smallnets import MEEK, NAMED, OWN
+from tests.smallsettings import ABC, ABC_QUORUMS, SENT, SMALL_SETTING
+from tests.test_benchlines import SMALL_LINES, SMALL_LOG, is_form, is_log
 
 NET = netclasses.Net.of(OWN)
 ALIKE = netclasses.Alike(("a", "b"), (("a",), ("b",)))
@@ -34,6 +38,19 @@ LOT_P = ("lot", ("b", "c"), lambda v: plain.is_lot(OWN[0], v))
 FALL_P = ("fall", ("c",), lambda v: plain.is_lot(OWN[0], v))
 HOUSES_P = ("houses", ("a", "c"), plain.are_houses)
 THING_P = ("thing", ("b",), lambda v: True)
+
+# The same for a smaller net, its quorums, and settings of it in which house c has fallen.
+ABC_P = ("net", ABC, plain.is_net)
+QUORUMS_P = ("quorums", ABC_QUORUMS, lambda v: plain.are_quorums(ABC, v))
+ABC_FALL_P = ("fall", ("b",), lambda v: plain.is_lot(ABC[0], v))
+ABC_LOT_P = ("lot", ("a", "b"), lambda v: plain.is_lot(ABC[0], v))
+ABC_HOUSE_P = ("house", "c", lambda v: plain.is_house(ABC, v))
+PROTOCOL_P = ("protocol", SENT, runs.is_protocol)
+NAME_P = ("name", "take", lambda v: type(v) is str and v in ("echo", "take"))
+SETTING_P = ("setting", SMALL_SETTING, runs.is_setting)
+LEFT_P = ("house", "a", lambda v: type(v) is str and v in ("a", "b"))
+LEAVER_P = ("other", "b", lambda v: type(v) is str and v in ("a", "b"))
+RUN_P = ("run", (("a", "echo", "v"), ("b", "echo", "v")), lambda v: runs.is_run(SMALL_SETTING, v))
 
 FUNCTIONS = [
     (kinds.is_lot, [HOUSES_P, THING_P]),
@@ -73,6 +90,37 @@ FUNCTIONS = [
     (netclasses.Shut, [HOUSES_P]),
     (NET, [HOUSE_P, OTHER_P]),
     (LOTS.covers, [HOUSES_P]),
+    (fitting.are_available, [ABC_P, QUORUMS_P]),
+    (fitting.missed_lot, [ABC_P, QUORUMS_P]),
+    (fitting.agree, [ABC_P, QUORUMS_P]),
+    (fitting.torn_pair, [ABC_P, QUORUMS_P]),
+    (fitting.fits, [ABC_P, QUORUMS_P]),
+    (kernels.kernels_of, [ABC_P, QUORUMS_P, ABC_HOUSE_P]),
+    (kernels.is_kernel, [ABC_P, QUORUMS_P, ABC_HOUSE_P, ABC_LOT_P]),
+    (guilds.greatest_guild, [ABC_P, QUORUMS_P, ABC_FALL_P]),
+    (guilds.is_guild, [ABC_P, QUORUMS_P, ABC_FALL_P, THING_P]),
+    (guilds.guild_paper, [ABC_P, QUORUMS_P, ABC_FALL_P]),
+    (guildchecker.lets_guild, [ABC_P, QUORUMS_P, ABC_FALL_P, (
+        "thing", guilds.guild_paper(ABC, ABC_QUORUMS, ("b",)), lambda v: True)]),
+    (goodfalls.good_falls, [ABC_P, QUORUMS_P, ABC_HOUSE_P]),
+    (goodfalls.good_paper, [ABC_P, QUORUMS_P, ABC_HOUSE_P]),
+    (goodchecker.lets_good, [ABC_P, QUORUMS_P, ABC_HOUSE_P, (
+        "thing", goodfalls.good_paper(ABC, ABC_QUORUMS, "c"), lambda v: True)]),
+    (protocolkinds.is_protocol, [THING_P]),
+    (protocolkinds.is_setting, [THING_P]),
+    (protocolchecker.lets_protocol, [("thing", SENT, lambda v: True)]),
+    (protocoltexts.protocol_text, [PROTOCOL_P]),
+    (protocolparts.stage_of, [PROTOCOL_P, NAME_P]),
+    (protocolparts.is_once, [PROTOCOL_P, NAME_P]),
+    (protocolparts.leads_to, [PROTOCOL_P, NAME_P]),
+    (places.once_places, [SETTING_P]),
+    (places.used_places, [SETTING_P, RUN_P]),
+    (leaving.can_leave, [SETTING_P, LEFT_P, LEAVER_P]),
+    (leaving.leave_paper, [SETTING_P, LEFT_P, LEAVER_P]),
+    (leaving.hears_sender, [SETTING_P, LEFT_P]),
+    (benchevents.is_event, [ABC_P, PROTOCOL_P, THING_P]),
+    (benchtexts.event_line, [("event", ("say", "a", "echo", "v"), is_form)]),
+    (benchtexts.log_lines, [("log", SMALL_LOG, is_log)]),
 ]
 
 LEFT_OF_SIGNS = [
@@ -167,18 +215,29 @@ class RefusalsTest(unittest.TestCase):
     def test_things_may_be_anything(self):
         asking = [plainquorums.are_quorums, covers.is_cover]
         judging = [fitchecker.lets_fit, coverchecker.lets_cover, coverchecker.lets_either]
+        more = [lambda net, thing: guildchecker.lets_guild(ABC, ABC_QUORUMS, ("b",), thing),
+                lambda net, thing: goodchecker.lets_good(ABC, ABC_QUORUMS, "a", thing),
+                lambda net, thing: protocolchecker.lets_protocol(thing)]
         for thing in itertools.chain(EVERY_KIND, [NET, LOTS, (NET, NET)]):
             for function in asking:
                 self.assertIs(function(OWN, thing), False)
-            for function in judging:
+            for function in judging + more:
                 self.assertEqual(settled(function, OWN, thing)[0], "InvalidPaper")
 
     def test_texts_that_are_no_strings(self):
-        for function in (netreadings.lot_read, netreadings.net_read, netclasses.Net.read):
+        for function in (netreadings.lot_read, netreadings.net_read, netclasses.Net.read, protocolreadings.protocol_read,
+                         benchreadings.read_event):
             for wrong in EVERY_KIND:
                 if not isinstance(wrong, str):
                     self.assertTrue(same(outcome(function, wrong), ("NotUsable", "text", -1)), (function, wrong))
                     self.assertTrue(same(outcome(function, text=wrong), ("NotUsable", "text", -1)))
+
+    def test_lines_that_are_no_list_of_strings(self):
+        self.assertTrue(same(benchreadings.read_log(lines=list(SMALL_LINES)), SMALL_LOG))
+        for wrong in EVERY_KIND + [tuple(SMALL_LINES), "\n".join(SMALL_LINES), SMALL_LINES + ["\n"], [SMALL_LINES]]:
+            if type(wrong) is not list or not all(type(line) is str and "\n" not in line for line in wrong):
+                self.assertTrue(same(outcome(benchreadings.read_log, wrong), ("NotUsable", "lines", -1)), wrong)
+                self.assertTrue(same(outcome(benchreadings.read_log, lines=wrong), ("NotUsable", "lines", -1)), wrong)
 
     def test_other_names(self):
         # The names of the houses play no part.
