@@ -64,7 +64,7 @@ def part_ends(lines):
     """The list of the indexes of the lines that begin quorums, protocol and events."""
     ends = []
     for k, line in enumerate(lines):
-        if k > 0 and len(ends) < len(PARTS) and line == PARTS[len(ends)]:
+        if len(ends) < len(PARTS) and line == PARTS[len(ends)]:
             ends.append(k)
     if len(ends) < len(PARTS):
         raise InvalidText(len(lines), 0)

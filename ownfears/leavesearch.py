@@ -51,10 +51,9 @@ def least_cause(leave, heard, run):
 
 def tree_or_run(leave, heard, barred):
     """A tree for the cases with these places heard and barred; or "left" and the places of a run that leaves it."""
-    if hears(leave, heard):
-        return ("sure", heard)
-    if not has(all_behind(leave.said, 0, barred), leave.two):
-        return ("closed", all_behind(leave.said, 0, barred))
+    reached = all_behind(leave.said, 0, barred)
+    if not has(reached, leave.two):
+        return ("closed", reached)
     run = least_run(leave, barred)
     if not hears(leave, run):
         return ("left", run)

@@ -109,6 +109,24 @@ class GoodCheckerTest(unittest.TestCase):
             self.assertTrue(same(found, ("InvalidPaper", word, at)), (thing, found))
             self.judged(AB, EACH, "a", thing)
 
+    def test_falls_in_another_order_and_within_others(self):
+        goods, bads = good_paper(FOUR, THREES, "a")
+        self.assertEqual([fall for fall, _ in goods], [("b",), ("c",), ("d",)])
+        for some in itertools.permutations(goods):
+            self.judged(FOUR, THREES, "a", (some, bads))
+        # Each house alone is enough: so falls may be greater, and lie within each other.
+        free = (("a", "b", "c"), ((("b", "c"),), ((),), ((),)))
+        alone = ((("a",),), (("b",),), (("c",),))
+        some = [(fall, ("a",)) for fall in ((), ("b",), ("b", "c"), ("c",))]
+        bad = ((("a",), (("a",),)),)
+        for size in (1, 2, 3):
+            for pairs in itertools.product(some, repeat=size):
+                self.judged(free, alone, "a", (pairs, bad))
+        self.assertEqual(lets_good(free, alone, "a", ((some[2],), bad)), 1)
+        self.assertEqual(outcome(lets_good, free, alone, "a", ((some[2], some[3]), bad)), ("InvalidPaper", "within", 1))
+        self.assertEqual(outcome(lets_good, free, alone, "a", ((some[1], some[2]), bad)), ("InvalidPaper", "within", 1))
+        self.assertEqual(outcome(lets_good, free, alone, "a", ((some[3], some[1]), bad)), ("InvalidPaper", "good", 1))
+
     def test_every_kind_of_value(self):
         for net, quorums in [(FOUR, THREES), (ABC, ABC_QUORUMS), (LONE, ((("a",),),))]:
             for thing in EVERY_KIND + [Net.of(OWN), Lots(), (GOOD, Lots()), ((Lots(),), ()), ((), ((Lots(), ()),))]:

@@ -112,6 +112,16 @@ class LeavingTest(unittest.TestCase):
             for house, other in itertools.product(empty[0][0], repeat=2):
                 self.assertIs(can_leave(empty, house, other), False)
 
+    def test_papers_are_not_large(self):
+        def size(tree):
+            return 1 + size(tree[2]) + size(tree[3]) if tree[0] == "case" else 1
+        for setting, most in [((SIX, plain_quorums(SIX), READY, "a", ("a",)), 11), (LATE, 11), (HEARD, 11)]:
+            word, tree = leave_paper(setting, "b" if setting == HEARD else "c", "c" if setting == HEARD else "d")
+            self.assertEqual(word, "kept")
+            self.assertLessEqual(size(tree), most, setting)
+        _, run, _ = leave_paper(ALONE, "c", "d")
+        self.assertEqual(len(run), 3)
+
     def test_by_name(self):
         self.assertIs(can_leave(other="d", house="c", setting=ALONE), True)
         self.assertEqual(leave_paper(other="d", house="c", setting=ALONE), leave_paper(ALONE, "c", "d"))

@@ -5,6 +5,7 @@ import random
 import unittest
 
 from ownfears.places import once_places, used_places
+from ownfears.runrules import run_fault
 from tests import plainruns as runs
 from tests.anyvalues import EVERY_KIND, double_mutants, mutants
 from tests.sameness import outcome, same
@@ -76,6 +77,16 @@ class PlacesTest(unittest.TestCase):
                 for run in itertools.product(some, repeat=size):
                     found = outcome(used_places, setting, run)
                     self.assertEqual(found[0] == "returns", runs.is_run(setting, run), (setting, run))
+
+    def test_the_first_fault_of_a_run(self):
+        rng = random.Random(104)
+        for setting in [LIED, HEARD, SMALL_SETTING, (ABC, PAIRS, MIXED, "c", ("c",))] + ALL[:40]:
+            some = runs.all_sayings(setting)
+            for run in [drawn_run(rng, setting) for _ in range(5)]:
+                things = list(mutants(run)) + list(double_mutants(run, rng, 50))
+                things += [run[:k] + (one,) + run[k:] for k in range(len(run) + 1) for one in some[::2]]
+                for thing in things:
+                    self.assertTrue(same(run_fault(setting, thing), next(runs.run_errors(setting, thing), None)), (setting, thing))
 
     def test_refused_in_order(self):
         for wrong in EVERY_KIND:
