@@ -41,6 +41,8 @@ class GuildsTest(unittest.TestCase):
             # (G2), [32]: guilds together are one, and the greatest one has all of them.
             self.assertIn(union, some)
             self.assertTrue(same(greatest_guild(net, quorums, fall), union))
+            for one, other in itertools.combinations(some, 2):
+                self.assertIs(is_guild(net, quorums, fall, tuple(sorted(set(one) | set(other)))), True)
             for lot in plain.subsets(net[0]):
                 self.assertIs(is_guild(net, quorums, fall, lot), lot in some)
             paper = guild_paper(net, quorums, fall)
