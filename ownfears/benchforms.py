@@ -4,17 +4,14 @@ from ownfears.kinds import is_name, is_net, is_tuple_of
 from ownfears.plainquorums import are_quorums_of
 from ownfears.protocolkinds import is_protocol
 from ownfears.protocolparts import stage_named
-from ownfears.sayingforms import VALUES
+from ownfears.sayingforms import is_saying_by_form
 
 
 def is_event_by_form(thing):
     """Whether thing is an event by form for some net and some protocol."""
     if is_tuple_of(thing, 2):
         return thing[0] == "fall" and is_name(thing[1])
-    if not is_tuple_of(thing, 4):
-        return False
-    word, house, stage, value = thing
-    return word == "say" and is_name(house) and is_name(stage) and value in VALUES
+    return is_tuple_of(thing, 4) and thing[0] == "say" and is_saying_by_form(thing[1:])
 
 
 def is_event_of(net, protocol, thing):

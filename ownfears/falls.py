@@ -44,3 +44,8 @@ def all_falls(net):
     houses = net[0]
     for size in range(len(houses) + 1):
         yield from sets_of(houses, size)
+
+
+def falls_without(net, house, other):
+    """The list of the falls that have neither of the two, those with fewer houses first, then ascending."""
+    return [fall for fall in all_falls(net) if house not in fall and other not in fall]

@@ -1,9 +1,10 @@
 """The search for a run behind which a house is left, or for a tree that shows that there is none.
 
-Sets of places are integers, as in placeways; what is said and heard has the value "v" throughout.
+Sets of places are integers, as in placesets; what is said and heard has the value "v" throughout.
 """
 
-from ownfears.placeways import all_behind, steps_behind, ways_of_places
+from ownfears.placesets import has, sayings_at, sayings_in
+from ownfears.placeways import all_behind, least_use, steps_behind, ways_of_places
 from ownfears.sayingforms import places_of
 
 
@@ -19,23 +20,9 @@ class Leave:
         self.sure = ways_of_places(setting, "v", True)
 
 
-def has(places, k):
-    """Whether place k is one of these places."""
-    return places >> k & 1 == 1
-
-
 def hears(leave, heard):
     """Whether it is heard for sure, behind these places, that the house takes."""
     return has(all_behind(leave.sure, heard, 0), leave.one)
-
-
-def least_run(leave, barred):
-    """The places of a run without barred ones in which the other house takes, none of which it could spare."""
-    # What comes late is spared first: much of it leads nowhere.
-    for k in steps_behind(leave.said, 0, barred)[::-1]:
-        if has(all_behind(leave.said, 0, barred | 1 << k), leave.two):
-            barred = barred | 1 << k
-    return all_behind(leave.said, 0, barred)
 
 
 def least_cause(leave, heard, run):
@@ -54,7 +41,7 @@ def tree_or_run(leave, heard, barred):
     reached = all_behind(leave.said, 0, barred)
     if not has(reached, leave.two):
         return ("closed", reached)
-    run = least_run(leave, barred)
+    run = least_use(leave.said, leave.two, barred)
     if not hears(leave, run):
         return ("left", run)
     asked = least_cause(leave, heard, run)
@@ -71,22 +58,12 @@ def tree_or_run(leave, heard, barred):
     return tree
 
 
-def sayings_at(leave, order):
-    """The tuple of the sayings at these places, in this order."""
-    return tuple([leave.places[k] + ("v",) for k in order])
-
-
-def sayings_in(leave, places):
-    """The set of the sayings at these places."""
-    return sayings_at(leave, [k for k in range(len(leave.places)) if has(places, k)])
-
-
 def sure_chain(leave, heard):
     """The sayings that are heard for sure behind these places one after the other, until the house takes."""
     if has(heard, leave.one):
-        return sayings_at(leave, [leave.one])
+        return sayings_at(leave.places, [leave.one], "v")
     order = steps_behind(leave.sure, heard, 0)
-    return sayings_at(leave, order[:order.index(leave.one) + 1])
+    return sayings_at(leave.places, order[:order.index(leave.one) + 1], "v")
 
 
 def written_tree(leave, tree):
@@ -95,10 +72,11 @@ def written_tree(leave, tree):
         _, k, first, second = tree
         return ("case", leave.places[k] + ("v",), written_tree(leave, first), written_tree(leave, second))
     word, places = tree
-    return (word, sayings_in(leave, places) if word == "closed" else sure_chain(leave, places))
+    return (word, sayings_in(leave.places, places, "v") if word == "closed" else sure_chain(leave, places))
 
 
 def written_run(leave, run):
     """The paper for a run that leaves the house: its sayings in order, and all that is heard for sure behind it."""
     order = steps_behind(leave.said, 0, ~run)
-    return ("left", sayings_at(leave, order), sayings_in(leave, all_behind(leave.sure, run, 0)))
+    heard = all_behind(leave.sure, run, 0)
+    return ("left", sayings_at(leave.places, order, "v"), sayings_in(leave.places, heard, "v"))

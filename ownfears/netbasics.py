@@ -43,6 +43,13 @@ def family_or_nobody(lots):
     return tuple(lots) if lots else ((),)
 
 
+def net_without(net, pairs):
+    """The net without the lots of these pairs of a house and a lot of it."""
+    houses, fears = net
+    left = [[lot for lot in family if (house, lot) not in pairs] for house, family in zip(houses, fears)]
+    return (houses, tuple([family_or_nobody(lots) for lots in left]))
+
+
 def cut_net(net, houses):
     """The net of these houses of the net alone, with lots that are cut to them."""
     cut = [greatest([common(lot, houses) for lot in family_of(net, house)]) for house in houses]

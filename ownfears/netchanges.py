@@ -3,7 +3,7 @@
 from ownfears.errors import NotUsable
 from ownfears.kinds import are_houses, is_name, is_net, is_tuple_of
 from ownfears.lotsets import ascend, greatest, is_lot_of
-from ownfears.netbasics import cut_net, family_of, family_or_nobody
+from ownfears.netbasics import cut_net, family_of, family_or_nobody, net_without
 from ownfears.usable import need
 
 
@@ -47,9 +47,7 @@ def struck(net, strikes):
     """The net without the strikes."""
     need(is_net(net), "net")
     need(are_strikes(net, strikes), "strikes")
-    houses, fears = net
-    left = [[lot for lot in family if (house, lot) not in strikes] for house, family in zip(houses, fears)]
-    return (houses, tuple([family_or_nobody(lots) for lots in left]))
+    return net_without(net, strikes)
 
 
 def names_behind(houses, pairs):

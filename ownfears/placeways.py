@@ -1,12 +1,13 @@
 """The ways by which something comes to be said, or heard for sure, at the places of a setting.
 
-A set of places is an integer here: the bit of place k of places_of is 1 << k. The ways of a place are a list. A way is
-a list of conditions. A condition is a list of sets of places: it holds where one of these sets is there.
+Sets of places are integers, as in placesets; place k is that of places_of. The ways of a place are a list. A way is a
+list of conditions. A condition is a list of sets of places: it holds where one of these sets is there.
 """
 
 from ownfears.kernelsearch import least_kernels
 from ownfears.lotsets import common, least, without
 from ownfears.netbasics import family_of
+from ownfears.placesets import has
 from ownfears.protocolparts import stage_named
 from ownfears.sayingforms import houses_left, places_of
 
@@ -72,7 +73,7 @@ def comes_by(ways, said):
 def next_places(ways, said, barred):
     """The list of the places, neither said nor barred, that come in one step."""
     taken = said | barred
-    return [k for k, own in enumerate(ways) if not taken >> k & 1 and comes_by(own, said)]
+    return [k for k, own in enumerate(ways) if not has(taken, k) and comes_by(own, said)]
 
 
 def all_behind(ways, said, barred):
@@ -93,3 +94,24 @@ def steps_behind(ways, said, barred):
             return order
         order = order + came
         said = said + sum([1 << k for k in came])
+
+
+def least_use(ways, at, barred):
+    """The set of the places of a run without barred ones that has place at; it could spare none of them."""
+    # What comes late is spared first: much of it leads nowhere.
+    for k in steps_behind(ways, 0, barred)[::-1]:
+        if has(all_behind(ways, 0, barred | 1 << k), at):
+            barred = barred | 1 << k
+    return all_behind(ways, 0, barred)
+
+
+def calm_order(ways):
+    """The list of the places that come if the least one that can come does, again and again."""
+    order = []
+    said = 0
+    while True:
+        came = next_places(ways, said, 0)
+        if not came:
+            return order
+        order.append(came[0])
+        said = said | 1 << came[0]

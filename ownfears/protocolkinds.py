@@ -2,8 +2,9 @@
 
 from ownfears.kinds import is_net, is_tuple_of
 from ownfears.lotsets import is_lot_of
-from ownfears.plainquorums import are_quorums_of
+from ownfears.plainquorums import are_quorums_of, need_quorums
 from ownfears.protocolfaults import protocol_fault
+from ownfears.usable import need
 
 
 def is_protocol(thing):
@@ -19,3 +20,10 @@ def is_setting(thing):
     if not is_net(net) or not are_quorums_of(net[0], quorums):
         return False
     return protocol_fault(protocol) is None and sender in net[0] and is_lot_of(net[0], fall)
+
+
+def need_parts(net, quorums, protocol, sender):
+    """Raise NotUsable unless these are the parts of a setting, but for its fall."""
+    need_quorums(net, quorums)
+    need(is_protocol(protocol), "protocol")
+    need(sender in net[0], "sender")

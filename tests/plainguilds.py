@@ -1,5 +1,7 @@
 """The definitions of quorums that fit, kernels, guilds and good falls in their plainest form, by which the tests judge."""
 
+import functools
+
 from tests import plainwords as plain
 
 
@@ -25,6 +27,7 @@ def has_one_of_each(lot, family):
     return all(set(lot) & set(q) for q in family)
 
 
+@functools.lru_cache(maxsize=None)
 def kernels(net, quorums, house):
     """The kernels of the house, by trying all lots."""
     family = quorums_of(net, quorums, house)

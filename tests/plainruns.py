@@ -1,5 +1,7 @@
 """The definitions of protocols, runs and what is heard for sure in their plainest form, by which the tests judge."""
 
+import itertools
+
 from tests import plainguilds as guilds
 from tests import plainwords as plain
 
@@ -118,18 +120,25 @@ def is_run(setting, v):
     return next(run_errors(setting, v), None) is None
 
 
-def next_sayings(setting, said):
-    """The sayings that can be said behind those of a run with the value v alone."""
-    return [one for one in all_sayings(setting, ("v",)) if one not in said and comes(setting, said, one, holds)]
+def is_barred(setting, said, one):
+    """Whether once bars the saying behind others."""
+    house, stage, value = one
+    return stage_of(setting[2], stage)[1] and (house, stage, "vw".replace(value, "")) in said
 
 
-def said_sets(setting):
-    """What runs with the value v alone have for their sayings, each once, by going through all."""
+def next_sayings(setting, said, values=("v",)):
+    """The sayings with these values that can be said behind those of a run."""
+    return [one for one in all_sayings(setting, values)
+            if one not in said and not is_barred(setting, said, one) and comes(setting, said, one, holds)]
+
+
+def said_sets(setting, values=("v",)):
+    """What runs with these values alone have for their sayings, each once, by going through all."""
     found = {frozenset()}
     waiting = [frozenset()]
     while waiting:
         said = waiting.pop()
-        for one in next_sayings(setting, said):
+        for one in next_sayings(setting, said, values):
             more = said | {one}
             if more not in found:
                 found.add(more)
@@ -166,20 +175,30 @@ def left_pairs(setting):
     return found
 
 
-def is_set_of_v(setting, v):
-    return plain.is_set_by(v, lambda one: is_saying(setting, one) and one[2] == "v")
+def parted_pairs(setting):
+    """All pairs of which the first takes v and the second w in some run, by going through all runs."""
+    houses = left_houses(setting)
+    found = set()
+    for said in said_sets(setting, ("v", "w")):
+        first, second = [[house for house in houses if taking(setting, house, value) in said] for value in "vw"]
+        found |= set(itertools.product(first, second))
+    return found
 
 
-def is_tree(v):
+def is_set_of(setting, v, value="v"):
+    return plain.is_set_by(v, lambda one: is_saying(setting, one) and one[2] == value)
+
+
+def is_tree(v, words=("closed", "sure")):
     if type(v) is not tuple or not v or type(v[0]) is not str:
         return False
     if v[0] == "case":
-        return len(v) == 4 and is_tree(v[2]) and is_tree(v[3])
-    return v[0] in ("closed", "sure") and len(v) == 2 and type(v[1]) is tuple
+        return len(v) == 4 and is_tree(v[2], words) and is_tree(v[3], words)
+    return v[0] in words and len(v) == 2 and type(v[1]) is tuple
 
 
 def is_closed_leaf(setting, other, barred, v):
-    if not is_set_of_v(setting, v) or taking(setting, other) in v:
+    if not is_set_of(setting, v) or taking(setting, other) in v:
         return False
     return set(next_sayings(setting, v)) <= set(barred)
 
@@ -217,6 +236,6 @@ def leave_errors(setting, house, other, v):
         if not is_run(setting, run) or any(one[2] != "v" for one in run) or taking(setting, other) not in run:
             yield ("run", -1)
             return
-        good = is_set_of_v(setting, sayings) and set(run) <= set(sayings) and sure_step(setting, sayings) <= set(sayings)
+        good = is_set_of(setting, sayings) and set(run) <= set(sayings) and sure_step(setting, sayings) <= set(sayings)
         if not good or taking(setting, house) in sayings:
             yield ("sayings", -1)

@@ -13,6 +13,7 @@ from ownfears.protocoltexts import protocol_text
 from tests import plainruns as runs
 from tests import plainwords as plain
 from tests.anyvalues import EVERY_KIND, double_mutants, mutants
+from tests.plainbenches import is_event_of, is_form, is_log
 from tests.sameness import outcome, same
 from tests.smallnets import FOUR, LONE, MEEK, NAMED, OWN
 from tests.smallsettings import (
@@ -29,28 +30,6 @@ SMALL_LINES = [
     "echo once sender", "take once quorum:echo", "events", "say a echo v", "fall b", "say c take w",
 ]
 LOGS = [SMALL_LOG, NAMED_LOG, LONE_LOG, (("bench", FOUR, THREES, READY, "a"),), (("bench", MEEK, MEEK_QUORUMS, SHORT, "d"), ("fall", "d"))]
-
-
-def is_form(v):
-    """Whether any value is an event by form for some net and protocol."""
-    if type(v) is not tuple or not all(type(one) is str for one in v):
-        return False
-    names = v[1:3] if len(v) == 4 else v[1:]
-    if not all(plain.is_name(name) for name in names):
-        return False
-    return len(v) == 4 and v[0] == "say" and runs.is_value(v[3]) or len(v) == 2 and v[0] == "fall"
-
-
-def is_event_of(net, protocol, v):
-    return is_form(v) and v[1] in net[0] and (len(v) == 2 or v[2] in [stage[0] for stage in protocol])
-
-
-def is_log(v):
-    if type(v) is not tuple or not v or type(v[0]) is not tuple or len(v[0]) != 5 or v[0][0] != "bench":
-        return False
-    if not runs.is_setting(v[0][1:] + ((),)):
-        return False
-    return all(is_event_of(v[0][1], v[0][3], event) for event in v[1:])
 
 
 def drawn_log(rng, setting):

@@ -5,7 +5,6 @@ import unittest
 from ownfears import errors
 from tests.sameness import same, told
 
-# Where an example also calls what is not built yet, the parts of it that are stand here.
 EXAMPLES = """
 >>> ONES = (('a',), ('b',), ('c',), ('d',))
 >>> FOUR = (('a', 'b', 'c', 'd'), (ONES, ONES, ONES, ONES))
@@ -77,8 +76,14 @@ raises InvalidPaper(word='within', at=(3, 1))
 >>> lets_guild(MEEK, MINE, ('a',), ((), (('a', 'c', 'd'), ('b',))))
 raises InvalidPaper(word='round', at=0)
 >>> from ownfears.goodfalls import good_falls
+>>> from ownfears.standings import Plain, Standing
 >>> [good_falls(FOUR, plain_quorums(FOUR), 'a'), good_falls(MEEK, MINE, 'b')]
 [(('b',), ('c',), ('d',)), ((),)]
+>>> one = Plain(FOUR)
+>>> [one.fell('a'), one.states_now, one.fell('b'), one.tried(('d',)), one.undo(), one.rose('a'), 'a' in one, len(one)]
+[('a',), ('fallen', 'wise', 'wise', 'wise'), ('b', 'c', 'd'), ('a', 'b', 'c'), ('fell', 'b'), ('a',), True, 2]
+>>> one.rose('c')
+raises NotUsable(word='house', at=-1)
 >>> from ownfears.covers import all_covers, first_cover, has_cover, is_cover
 >>> [has_cover(FOUR), first_cover(FOUR), first_cover(OWN), len(list(all_covers(OWN)))]
 [False, None, ('a', 'b', ('c', 'd'), ('a',), ('b',), ('b',)), 6]
@@ -92,6 +97,21 @@ raises InvalidPaper(word='round', at=0)
 raises InvalidPaper(word='left', at='a')
 >>> lets_either(FOUR, ('cover', ('a', 'b', ('c', 'd'), ('a',), ('b',), ('b',))))
 raises InvalidPaper(word='lot', at=2)
+>>> from ownfears.strikechecker import lets_strikes
+>>> from ownfears.strikes import least_price, least_strikes, strike_paper
+>>> ALL = (1, 1, 1, 1)
+>>> [least_price(OWN, ((3, 5), ALL, ALL, ALL)), least_strikes(OWN, ((3, 5), ALL, ALL, ALL)), least_price(FOUR, (ALL, ALL, ALL, ALL))]
+[3, (('a', ('b',)),), 0]
+>>> least_strikes(OWN, ((4, 5), ALL, ALL, ALL))
+(('b', ('a',)), ('c', ('a',)), ('d', ('a',)))
+>>> TWO = (('a', 'b'), ((('b',),), (('a',),)))
+>>> PAPER = (2, (('a', ('b',)),), ('split', ('a', 'b', ('b',), ('a',), ('b',), ('a',)), (('paid',), ('paid',))))
+>>> [lets_strikes(TWO, ((2,), (3,)), PAPER), lets_strikes(OWN, ((3, 5), ALL, ALL, ALL), strike_paper(OWN, ((3, 5), ALL, ALL, ALL)))]
+[2, 3]
+>>> lets_strikes(TWO, ((2,), (1,)), PAPER)
+raises InvalidPaper(word='paid', at=(1,))
+>>> least_price(TWO, ((2,), (0,)))
+raises NotUsable(word='prices', at=-1)
 >>> from ownfears.alikenets import alike_net, common_fears
 >>> from ownfears.clashes import clashing, greatest_kept
 >>> from ownfears.covertexts import cover_text
@@ -115,20 +135,61 @@ raises InvalidPaper(word='lot', at=2)
 raises InvalidPaper(word='name', at=2)
 >>> protocol_read('echo once sender\\ntake often quorum:ready')
 raises InvalidText(line=1, column=1)
+>>> from ownfears.plainquorums import plain_quorums
+>>> from ownfears.runs import calm_run, lets_run, takers
+>>> from ownfears.sayings import can_say, possible_sayings
 >>> HEARD = (FOUR, plain_quorums(FOUR), READY, 'a', ('d',))
 >>> LIED = (FOUR, plain_quorums(FOUR), SENT, 'd', ('d',))
+>>> [list(possible_sayings(HEARD, ())), can_say(HEARD, (('a', 'echo', 'v'), ('b', 'echo', 'v')), ('c', 'ready', 'v'))]
+[[('a', 'echo', 'v'), ('b', 'echo', 'v'), ('c', 'echo', 'v')], True]
+>>> [' '.join(saying) for saying in calm_run(HEARD, 'v')]
+['a echo v', 'b echo v', 'a ready v', 'b ready v', 'a take v', 'b take v', 'c echo v', 'c ready v', 'c take v']
+>>> [takers(HEARD, calm_run(HEARD, 'v'), 'v'), calm_run(HEARD, 'w'), len(list(possible_sayings(LIED, ())))]
+[('a', 'b', 'c'), (), 6]
+>>> lets_run(LIED, (('a', 'echo', 'v'), ('a', 'echo', 'w')))
+raises InvalidPaper(word='once', at=1)
 >>> from ownfears.places import once_places, used_places
->>> [len(once_places(LIED)), used_places(LIED, (('b', 'echo', 'w'),))]
-[6, (('b', 'echo'),)]
+>>> from ownfears.sure import all_sayable, sure_sayings
+>>> [len(sure_sayings(HEARD, ())), sure_sayings(LIED, ()), len(all_sayable(LIED, 'v')), len(all_sayable(HEARD, 'w'))]
+[9, (), 6, 0]
+>>> [sure_sayings(LIED, (('a', 'echo', 'v'), ('b', 'echo', 'v'))), len(once_places(LIED)), used_places(LIED, (('b', 'echo', 'w'),))]
+[(('a', 'echo', 'v'), ('b', 'echo', 'v')), 6, (('b', 'echo'),)]
+>>> from ownfears.courses import Course, Warned
+>>> one = Warned(*LIED)
+>>> [one.say('a', 'echo', 'v'), one.say('b', 'echo', 'v'), one.say('c', 'echo', 'w')]
+[(('a', 'echo', 'v'), (('a', 'echo', 'w'),)), (('b', 'echo', 'v'), (('b', 'echo', 'w'),)), (('c', 'echo', 'w'), (('c', 'echo', 'v'),))]
+>>> [one.sayable(), one.tried(('a', 'take', 'v')) == one.run + (('a', 'take', 'v'),), len(one), one.undo(), ('c', 'echo', 'w') in one]
+[[('a', 'take', 'v'), ('b', 'take', 'v'), ('c', 'take', 'v')], True, 3, ('c', 'echo', 'w'), False]
+>>> [one == Course(*LIED), str(one), one.blocked(), one.taken('v')]
+[False, 'a echo v\\nb echo v', (('a', 'echo', 'w'), ('b', 'echo', 'w')), ()]
+>>> Course(*HEARD).say('d', 'echo', 'v')
+raises NotUsable(word='saying', at=-1)
+>>> from ownfears.parting import can_part
+>>> from ownfears.partchecker import lets_part
 >>> THREES = plain_quorums(FOUR)
 >>> ALONE, BOTH = (FOUR, THREES, SENT, 'a', ('a',)), (FOUR, THREES, SENT, 'a', ('a', 'b'))
+>>> [can_part(ALONE, 'c', 'd'), can_part(BOTH, 'c', 'd'), can_part(BOTH, 'c', 'c')]
+[False, True, False]
+>>> lets_part(ALONE, 'c', 'd', ('kept', ('v', ())))
+raises InvalidPaper(word='leaf', at=())
 >>> from ownfears.leaving import can_leave, hears_sender
 >>> LATE = (FOUR, THREES, READY, 'a', ('a',))
 >>> [can_leave(ALONE, 'c', 'd'), can_leave(LATE, 'c', 'd'), hears_sender(LATE, 'c'), hears_sender((FOUR, THREES, READY, 'a', ('b',)), 'c')]
 [True, False, False, True]
+>>> from ownfears.leastfalls import hearing_falls, leaving_falls, parting_falls, safe_pairs
+>>> [parting_falls(FOUR, THREES, SENT, 'a', 'c', 'd'), leaving_falls(FOUR, THREES, SENT, 'a', 'c', 'd'), leaving_falls(FOUR, THREES, READY, 'a', 'c', 'd')]
+[(('a', 'b'),), (('a',),), (('a', 'b'),)]
+>>> [hearing_falls(FOUR, THREES, SENT, 'a', 'c'), len(safe_pairs(FOUR, THREES, SENT, 'a'))]
+[(('b',), ('d',)), 6]
+>>> from ownfears.benches import Bench, Fallen
+>>> bench = Bench(FOUR, THREES, SENT, 'a')
+>>> [bench.say('b', 'echo', 'v'), bench.fell('a'), bench.barred(('say', 'b', 'echo', 'w')), bench.say('c', 'echo', 'v')]
+[(), (), 'once', (('b', 'take', 'v'), ('c', 'take', 'v'), ('d', 'take', 'v'))]
 >>> from ownfears.benchtexts import log_lines
->>> log_lines((('bench', FOUR, THREES, SENT, 'a'),))[::5]
-['bench a', 'quorums', 'protocol']
+>>> from ownfears.desks import Desk
+>>> desk = Desk()
+>>> [desk.say(row) for row in ('\\n'.join(log_lines(bench.log()[:1])), 'fall d', 'bars say d echo v', 'houses', 'verdict', 'undo')]
+['ok', '-', 'fallen', 'd', 'going', 'fall d']
 """
 
 

@@ -5,6 +5,7 @@ import random
 import unittest
 
 from ownfears.guilds import greatest_guild
+from ownfears.leavechecker import lets_leave
 from ownfears.leaving import can_leave, hears_sender, leave_paper
 from ownfears.plainquorums import plain_quorums
 from tests import plainguilds as guilds
@@ -46,6 +47,7 @@ class LeavingTest(unittest.TestCase):
         paper = leave_paper(setting, house, other)
         self.assertEqual(next(runs.leave_errors(setting, house, other, paper), None), None, (setting, house, other, paper))
         self.assertEqual(paper[0], "left" if left else "kept")
+        self.assertEqual(lets_leave(setting, house, other, paper), paper[0])
 
     def test_of_the_document(self):
         self.assertIs(can_leave(ALONE, "c", "d"), True)

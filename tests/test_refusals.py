@@ -7,18 +7,23 @@ import types
 import unittest
 
 from ownfears import (
-    alikenets, benchevents, benchreadings, benchtexts, clashes, coverchecker, covers, covertexts, falls, fitchecker, fitting,
-    goodchecker, goodfalls, guildchecker, guilds, kernels, kinds, leaving, netchanges, netclasses, netparts, netreadings, nettexts,
-    places, plainquorums, protocolchecker, protocolkinds, protocolparts, protocolreadings, protocoltexts,
+    alikenets, benches, benchevents, benchlogs, benchreadings, benchtexts, clashes, courses, coverchecker, covers, covertexts,
+    fallchecker, falls, fitchecker, fitting, goodchecker, goodfalls, guildchecker, guilds, kernels, kinds, leastfalls, leavechecker,
+    leaving, netchanges, netclasses, netparts, netreadings, nettexts, partchecker, parting, places, plainquorums, protocolchecker,
+    protocolkinds, protocolparts, protocolreadings, protocoltexts, sayingreadings, sayings, sayingtexts, standings, strikechecker,
+    strikes, sure,
 )
 from ownfears.covers import first_cover
+from ownfears.runs import calm_run, lets_run, takers
+from tests import plainpapers as papers
 from tests import plainruns as runs
 from tests import plainwords as plain
 from tests.anyvalues import EVERY_KIND, double_mutants, mutants
+from tests.plainbenches import is_form, is_log
 from tests.sameness import outcome, same
 from tests.smallnets import MEEK, NAMED, OWN
 from tests.smallsettings import ABC, ABC_QUORUMS, SENT, SMALL_SETTING
-from tests.test_benchlines import SMALL_LINES, SMALL_LOG, is_form, is_log
+from tests.test_benchlines import SMALL_LINES, SMALL_LOG
 
 NET = netclasses.Net.of(OWN)
 ALIKE = netclasses.Alike(("a", "b"), (("a",), ("b",)))
@@ -51,6 +56,17 @@ SETTING_P = ("setting", SMALL_SETTING, runs.is_setting)
 LEFT_P = ("house", "a", lambda v: type(v) is str and v in ("a", "b"))
 LEAVER_P = ("other", "b", lambda v: type(v) is str and v in ("a", "b"))
 RUN_P = ("run", (("a", "echo", "v"), ("b", "echo", "v")), lambda v: runs.is_run(SMALL_SETTING, v))
+SAYING_P = ("saying", ("b", "take", "v"), lambda v: runs.is_saying(SMALL_SETTING, v))
+VALUE_P = ("value", "v", runs.is_value)
+SENDER_P = ("sender", "a", lambda v: plain.is_house(ABC, v))
+PARTS_P = [ABC_P, QUORUMS_P, PROTOCOL_P, SENDER_P]
+KIND_P = ("kind", "leaving", lambda v: type(v) is str and v in ("parting", "leaving"))
+ABC_OTHER_P = ("other", "a", lambda v: plain.is_house(ABC, v))
+PRICES_P = ("prices", ((2, 1), (1,), (3,)), lambda v: papers.are_prices(ABC, v))
+
+
+def is_free_saying(v):
+    return type(v) is tuple and len(v) == 3 and plain.is_name(v[0]) and plain.is_name(v[1]) and runs.is_value(v[2])
 
 FUNCTIONS = [
     (kinds.is_lot, [HOUSES_P, THING_P]),
@@ -121,6 +137,40 @@ FUNCTIONS = [
     (benchevents.is_event, [ABC_P, PROTOCOL_P, THING_P]),
     (benchtexts.event_line, [("event", ("say", "a", "echo", "v"), is_form)]),
     (benchtexts.log_lines, [("log", SMALL_LOG, is_log)]),
+    (sayings.can_say, [SETTING_P, RUN_P, SAYING_P]),
+    (sayings.possible_sayings, [SETTING_P, RUN_P]),
+    (lets_run, [SETTING_P, ("thing", (("a", "echo", "v"),), lambda v: True)]),
+    (takers, [SETTING_P, RUN_P, VALUE_P]),
+    (calm_run, [SETTING_P, VALUE_P]),
+    (sure.sure_sayings, [SETTING_P, (
+        "run", (("a", "echo", "v"),), lambda v: runs.is_run(SMALL_SETTING, v) and all(one[2] == "v" for one in v))]),
+    (sure.all_sayable, [SETTING_P, VALUE_P]),
+    (sayingtexts.saying_text, [("saying", ("x", "y", "w"), is_free_saying)]),
+    (sayingtexts.run_text, [("run", (("x", "y", "w"),) * 2, lambda v: type(v) is tuple and all(map(is_free_saying, v)))]),
+    (parting.can_part, [SETTING_P, LEFT_P, LEAVER_P]),
+    (parting.part_paper, [SETTING_P, LEFT_P, LEAVER_P]),
+    (partchecker.lets_part, [SETTING_P, LEFT_P, LEAVER_P, (
+        "thing", parting.part_paper(SMALL_SETTING, "a", "b"), lambda v: True)]),
+    (leavechecker.lets_leave, [SETTING_P, LEFT_P, LEAVER_P, (
+        "thing", leaving.leave_paper(SMALL_SETTING, "a", "b"), lambda v: True)]),
+    (leastfalls.parting_falls, PARTS_P + [ABC_HOUSE_P, ABC_OTHER_P]),
+    (leastfalls.leaving_falls, PARTS_P + [ABC_HOUSE_P, ABC_OTHER_P]),
+    (leastfalls.hearing_falls, PARTS_P + [ABC_HOUSE_P]),
+    (leastfalls.safe_pairs, PARTS_P),
+    (leastfalls.falls_paper, PARTS_P + [KIND_P, ABC_HOUSE_P, ABC_OTHER_P]),
+    (fallchecker.lets_falls, PARTS_P + [(
+        "thing", leastfalls.falls_paper(ABC, ABC_QUORUMS, SENT, "a", "parting", "b", "c"), lambda v: True)]),
+    (strikes.least_price, [ABC_P, PRICES_P]),
+    (strikes.least_strikes, [ABC_P, PRICES_P]),
+    (strikes.strike_paper, [ABC_P, PRICES_P]),
+    (strikechecker.lets_strikes, [ABC_P, PRICES_P, ("thing", strikes.strike_paper(ABC, PRICES_P[1]), lambda v: True)]),
+    (standings.Standing, [ABC_P, QUORUMS_P]),
+    (standings.Plain, [ABC_P]),
+    (courses.Course, PARTS_P + [ABC_FALL_P]),
+    (courses.Warned, PARTS_P + [ABC_FALL_P]),
+    (benches.Bench, PARTS_P),
+    (benchlogs.is_log, [THING_P]),
+    (benchlogs.replayed, [("log", SMALL_LOG[:2], is_log)]),
 ]
 
 LEFT_OF_SIGNS = [
@@ -206,6 +256,8 @@ class RefusalsTest(unittest.TestCase):
                     self.assertTrue(same(outcome(sign, wrong), ("NotUsable", word, -1)))
 
     def test_generators_raise_when_the_first_one_is_asked_for(self):
+        rows = sayings.possible_sayings(None, ())
+        self.assertEqual(outcome(lambda: next(rows)), ("NotUsable", "setting", -1))
         for function in (falls.all_falls, covers.all_covers):
             for wrong in (None, 1, [], OWN[0], NET):
                 rows = function(wrong)
@@ -217,7 +269,11 @@ class RefusalsTest(unittest.TestCase):
         judging = [fitchecker.lets_fit, coverchecker.lets_cover, coverchecker.lets_either]
         more = [lambda net, thing: guildchecker.lets_guild(ABC, ABC_QUORUMS, ("b",), thing),
                 lambda net, thing: goodchecker.lets_good(ABC, ABC_QUORUMS, "a", thing),
-                lambda net, thing: protocolchecker.lets_protocol(thing)]
+                lambda net, thing: protocolchecker.lets_protocol(thing),
+                lambda net, thing: partchecker.lets_part(SMALL_SETTING, "a", "b", thing),
+                lambda net, thing: leavechecker.lets_leave(SMALL_SETTING, "a", "b", thing),
+                lambda net, thing: fallchecker.lets_falls(ABC, ABC_QUORUMS, SENT, "a", thing),
+                lambda net, thing: strikechecker.lets_strikes(ABC, PRICES_P[1], thing)]
         for thing in itertools.chain(EVERY_KIND, [NET, LOTS, (NET, NET)]):
             for function in asking:
                 self.assertIs(function(OWN, thing), False)
@@ -226,7 +282,7 @@ class RefusalsTest(unittest.TestCase):
 
     def test_texts_that_are_no_strings(self):
         for function in (netreadings.lot_read, netreadings.net_read, netclasses.Net.read, protocolreadings.protocol_read,
-                         benchreadings.read_event):
+                         benchreadings.read_event, sayingreadings.saying_read, sayingreadings.run_read):
             for wrong in EVERY_KIND:
                 if not isinstance(wrong, str):
                     self.assertTrue(same(outcome(function, wrong), ("NotUsable", "text", -1)), (function, wrong))
