@@ -1,1 +1,1 @@
-"""Ownfears: nets of houses that each have their own fears, their quorums, falls and covers."""
+"""Ownfears: nets of houses that each have their own fears, and protocols over them, judged for all falls."""

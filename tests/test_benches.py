@@ -222,12 +222,13 @@ class DoAllTest(BenchCase):
                     log, done = log + (event,), done + 1
                 if done == len(events):
                     continue
-                for keep in (False, True):
+                for more in ({}, {"keep": False}, {"keep": True}):
                     bench = made(HEADS[0])
                     bench.say("d", "echo", "v")
-                    self.assertTrue(same(outcome(bench.do_all, *events, keep=keep), ("Broken", done)))
-                    self.like(bench, log if keep else log[:2])
-                    self.assertTrue(bench == replayed(log if keep else log[:2]))
+                    self.assertTrue(same(outcome(bench.do_all, *events, **more), ("Broken", done)))
+                    kept = log if more.get("keep") else log[:2]
+                    self.like(bench, kept)
+                    self.assertTrue(bench == replayed(kept))
                     self.assertEqual(bench.tally(), (2, 2))
 
     def test_keep_is_asked_first(self):

@@ -63,6 +63,40 @@ def changed_names(nodes):
             yield ast.unparse(part.value)
 
 
+def is_property(node):
+    return any(ast.unparse(decorator) == "property" for decorator in node.decorator_list)
+
+
+def methods_of(tree):
+    """The pairs of a class and a function in its body."""
+    return [(node, part) for node in tree.body if isinstance(node, ast.ClassDef) for part in node.body if isinstance(part, ast.FunctionDef)]
+
+
+def own_lists(function):
+    """The names to which a function assigns lists that it creates."""
+    for node in ast.walk(function):
+        if isinstance(node, ast.Assign) and isinstance(node.value, (ast.List, ast.ListComp)):
+            yield from [target.id for target in node.targets if isinstance(target, ast.Name)]
+
+
+def changes_of(function):
+    """What a function changes but lists that it creates, and the attributes of what it makes."""
+    for node in ast.walk(function):
+        if isinstance(node, (ast.AugAssign, ast.Delete, ast.Nonlocal)):
+            yield ast.unparse(node)
+        if isinstance(node, ast.Attribute) and isinstance(node.ctx, ast.Store) and function.name != "__init__":
+            yield ast.unparse(node)
+    yield from set(changed_names([function])) - set(own_lists(function))
+
+
+def called_by(function, table):
+    """The functions of the package that a function calls, by their names."""
+    for node in ast.walk(function):
+        if isinstance(node, ast.Call):
+            name = node.func.attr if isinstance(node.func, ast.Attribute) else ast.unparse(node.func)
+            yield from table.get(name, [])
+
+
 def bound_names(tree):
     """All names that a file gives to something, but for methods."""
     for node in ast.walk(tree):
@@ -224,6 +258,46 @@ class LanguageTest(unittest.TestCase):
                 called = isinstance(node, ast.Call) and isinstance(node.func, ast.Name) and node.func.id in ("set", "frozenset")
                 if called or isinstance(node, ast.SetComp):
                     self.assertIn(id(node), good, (path, node.lineno))
+
+    def test_what_operators_and_properties_run_changes_nothing(self):
+        table, waiting = {}, []
+        for _, tree in trees():
+            for node in tree.body:
+                if isinstance(node, ast.FunctionDef):
+                    table.setdefault(node.name, []).append(node)
+            for kind, method in methods_of(tree):
+                table.setdefault(kind.name if method.name == "__init__" else method.name, []).append(method)
+                if is_property(method) or method.name in DUNDERS - {"__init__", "__call__"}:
+                    waiting.append(method)
+        seen = []
+        while waiting:
+            function = waiting.pop()
+            if function not in seen:
+                seen.append(function)
+                self.assertFalse(list(changes_of(function)), function.name)
+                waiting += called_by(function, table)
+
+    def test_finally_only_assigns_attributes(self):
+        for path, tree in trees():
+            for node in ast.walk(tree):
+                for part in node.finalbody if isinstance(node, ast.Try) else []:
+                    self.assertIsInstance(part, ast.Assign, (path, part.lineno))
+                    for side in (part.targets[0], part.value):
+                        self.assertIsInstance(side, ast.Attribute, (path, part.lineno))
+
+    def test_what_has_items_says_how_it_is_iterated(self):
+        for path, tree in trees():
+            for node in [node for node in tree.body if isinstance(node, ast.ClassDef)]:
+                names = [method.name for kind, method in methods_of(tree) if kind is node]
+                self.assertLessEqual(names.count("__getitem__"), names.count("__iter__"), (path, node.name))
+
+    def test_methods_properties_and_attributes_have_names_of_their_own(self):
+        methods = [method for _, tree in trees() for _, method in methods_of(tree)]
+        properties = {method.name for method in methods if is_property(method)}
+        plain = {method.name for method in methods} - properties
+        stored = {node.attr for _, tree in trees() for node in ast.walk(tree) if isinstance(node, ast.Attribute) and isinstance(node.ctx, ast.Store)}
+        self.assertFalse(properties & {method.name for method in methods if not is_property(method)})
+        self.assertFalse(stored & (properties | plain))
 
     def test_nothing_is_called_like_a_generator(self):
         functions = [node for _, tree in trees() for node in ast.walk(tree) if isinstance(node, ast.FunctionDef)]

@@ -92,6 +92,11 @@ class FamiliesTest(unittest.TestCase):
         every = (("a", "b", "c"), ((("a",), ("b",), ("c",)),) * 3)
         self.assertEqual([safe_pairs(every, PAIRS, (("take", True, ((("one", "take"),),)),), "c"), safe_pairs(every, PAIRS, SHORT, "c")], [(), (("a", "c"), ("b", "c"))])
         self.assertEqual(safe_pairs(*ONE_SETTING[:4]), ())
+        # Parted in one order alone: who hears itself takes v alone, who hears c, fallen, either value.
+        for quorums in ((("a",),), (("c",),), (("a",),)), ((("c",),), (("b",),), (("a",),)):
+            parts = (wide, quorums, SENT, "a")
+            self.assertEqual([parting_falls(*parts, "a", "b"), parting_falls(*parts, "b", "a")].count(()), 1)
+            self.assertNotIn(("a", "b"), safe_pairs(*parts))
         # House and other the same; the sender among them.
         self.assertEqual(parting_falls(ABC, PAIRS, FREE_SHORT, "a", "b", "b"), (("a",),))
         self.assertEqual(parting_falls(ABC, PAIRS, SHORT, "a", "b", "b"), ())
